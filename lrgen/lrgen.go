@@ -1,0 +1,83 @@
+// Package lrgen: grammars, their tables, and what they read: see DOC.md.
+package lrgen
+
+// Errno is what a call answers: OK or the reason for a refusal.
+type Errno int
+
+const (
+	OK       Errno = 0
+	ErrLong  Errno = 1 // a string above its bound
+	ErrRule  Errno = 2 // no grammar
+	ErrName  Errno = 3 // a big letter without a rule
+	ErrDead  Errno = 4 // a rule that is of no use
+	ErrWord  Errno = 5 // no word, letter or sign
+	ErrMany  Errno = 6 // too many states
+	ErrState Errno = 7 // there is no such state, or core
+	ErrClash Errno = 8 // one letter ahead is not enough
+	ErrNone  Errno = 9 // no text of the grammar
+)
+
+// Check tells whether a text is a grammar (P3).
+func Check(g string) (Errno, int) {
+	read := readGrammar(g)
+	return read.fault, read.place
+}
+
+// Null tells whether a word derives the empty one (P4).
+func Null(g string, w string) (bool, Errno) {
+	read := readWithWord(g, w)
+	if read.fault != OK {
+		return false, read.fault
+	}
+	return read.isNull(w), OK
+}
+
+// First tells with which letters the words begin that a word derives (P4).
+func First(g string, w string) (string, Errno) {
+	read := readWithWord(g, w)
+	if read.fault != OK {
+		return "", read.fault
+	}
+	begins := read.firstOf(w)
+	return begins.list(), OK
+}
+
+// Follow tells what can follow a big letter (P5).
+func Follow(g string, w string) (string, Errno) {
+	read := readWithWord(g, w)
+	if read.fault != OK {
+		return "", read.fault
+	}
+	if len(w) != 1 || !isBig(w[0]) {
+		return "", ErrWord
+	}
+	table := read.followTable()
+	behind := table.get(w[0])
+	return behind.list(), OK
+}
+
+// The calls from here on are not built yet: they answer zero values.
+
+// States tells how many states there are (P6).
+func States(g string) (int, Errno) { return 0, OK }
+
+// Step tells to which state a letter leads (P6).
+func Step(g string, s int, x string) (int, Errno) { return 0, OK }
+
+// Acts tells what can be done in a state where a sign comes (P6).
+func Acts(g string, s int, x string) (string, Errno) { return "", OK }
+
+// Core tells of which core a state is (P7).
+func Core(g string, s int) (int, Errno) { return 0, OK }
+
+// Mix tells what can be done in the states of a core where a sign comes (P7).
+func Mix(g string, c int, x string) (string, Errno) { return "", OK }
+
+// Class tells whether one letter ahead is enough, and whether it is in merged tables (P8).
+func Class(g string) (int, Errno) { return 0, OK }
+
+// Tree tells how a text is made (P9).
+func Tree(g string, t string) (string, Errno) { return "", OK }
+
+// Stop tells how far a text is good, and what can come there (P10).
+func Stop(g string, t string) (int, string, Errno) { return 0, "", OK }
