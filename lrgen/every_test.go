@@ -11,12 +11,19 @@ import (
 )
 
 // answers lays what the built calls answer into one text.
-func answers(g, w string) string {
+func answers(g, w string, n int) string {
 	fault, place := lrgen.Check(g)
 	null, nullFault := lrgen.Null(g, w)
 	first, firstFault := lrgen.First(g, w)
 	follow, followFault := lrgen.Follow(g, w)
-	return fmt.Sprint(fault, place, null, nullFault, first, firstFault, follow, followFault)
+	states, statesFault := lrgen.States(g)
+	step, stepFault := lrgen.Step(g, n, w)
+	acts, actsFault := lrgen.Acts(g, n, w)
+	core, coreFault := lrgen.Core(g, n)
+	mix, mixFault := lrgen.Mix(g, n, w)
+	class, classFault := lrgen.Class(g)
+	return fmt.Sprint(fault, place, null, nullFault, first, firstFault, follow, followFault,
+		states, statesFault, step, stepFault, acts, actsFault, core, coreFault, mix, mixFault, class, classFault)
 }
 
 // callAll makes every call, those too that are not built yet.
@@ -60,9 +67,10 @@ func TestEveryCallEndsP1(t *testing.T) {
 // With an error every other result is zero, but for Check's place.
 func TestErrorsLeaveZeroP1(t *testing.T) {
 	source := rand.New(rand.NewSource(3))
-	for range 20000 {
+	for range 10000 {
 		g := someGrammar(source)
-		w := someText(source, "SAab$", 14)
+		w := someText(source, "SAab$", source.Intn(14))
+		tablesLeaveZero(t, g, w, source.Intn(12)-2)
 		null, fault := lrgen.Null(g, w)
 		if fault != lrgen.OK && null {
 			t.Errorf("Null(%q, %q) = true, %d", g, w, fault)
@@ -75,6 +83,33 @@ func TestErrorsLeaveZeroP1(t *testing.T) {
 		if fault != lrgen.OK && follow != "" {
 			t.Errorf("Follow(%q, %q) = %q, %d", g, w, follow, fault)
 		}
+	}
+}
+
+func tablesLeaveZero(t *testing.T, g, w string, n int) {
+	states, fault := lrgen.States(g)
+	if fault != lrgen.OK && states != 0 {
+		t.Errorf("States(%q) = %d, %d", g, states, fault)
+	}
+	step, fault := lrgen.Step(g, n, w)
+	if fault != lrgen.OK && step != 0 {
+		t.Errorf("Step(%q, %d, %q) = %d, %d", g, n, w, step, fault)
+	}
+	acts, fault := lrgen.Acts(g, n, w)
+	if fault != lrgen.OK && acts != "" {
+		t.Errorf("Acts(%q, %d, %q) = %q, %d", g, n, w, acts, fault)
+	}
+	core, fault := lrgen.Core(g, n)
+	if fault != lrgen.OK && core != 0 {
+		t.Errorf("Core(%q, %d) = %d, %d", g, n, core, fault)
+	}
+	mix, fault := lrgen.Mix(g, n, w)
+	if fault != lrgen.OK && mix != "" {
+		t.Errorf("Mix(%q, %d, %q) = %q, %d", g, n, w, mix, fault)
+	}
+	class, fault := lrgen.Class(g)
+	if fault != lrgen.OK && class != 0 {
+		t.Errorf("Class(%q) = %d, %d", g, class, fault)
 	}
 }
 
@@ -93,6 +128,17 @@ func TestLongStringsCostNothingP1(t *testing.T) {
 			wantFirst(t, c[0], c[1], "", lrgen.ErrLong)
 			wantFollow(t, c[0], c[1], "", lrgen.ErrLong)
 		}
+		wantStates(t, long, 0, lrgen.ErrLong)
+		wantClass(t, long, 0, lrgen.ErrLong)
+		wantCore(t, long, 0, 0, lrgen.ErrLong)
+		for _, x := range []string{"a", long} {
+			wantStep(t, long, 0, x, 0, lrgen.ErrLong)
+			wantActs(t, long, 0, x, "", lrgen.ErrLong)
+			wantMix(t, long, 0, x, "", lrgen.ErrLong)
+		}
+		wantStep(t, "S=", 0, long, 0, lrgen.ErrWord)
+		wantActs(t, "S=", 0, long, "", lrgen.ErrWord)
+		wantMix(t, "S=", 0, long, "", lrgen.ErrWord)
 		if time.Since(begin) > 10*time.Second {
 			t.Fatal("long strings are read ahead of being refused")
 		}
@@ -103,16 +149,16 @@ func TestLongStringsCostNothingP1(t *testing.T) {
 func TestNothingIsKeptP2(t *testing.T) {
 	source := rand.New(rand.NewSource(4))
 	var grammars, words, before []string
-	for range 500 {
+	for i := range 500 {
 		g := someGrammar(source)
-		w := someText(source, "SAab", 2)
+		w := someText(source, "SAab$", 2)
 		grammars = append(grammars, g)
 		words = append(words, w)
-		before = append(before, answers(g, w))
+		before = append(before, answers(g, w, i%5))
 	}
 	for i := len(grammars) - 1; i >= 0; i-- {
 		callAll(expression, "E", i)
-		after := answers(grammars[i], words[i])
+		after := answers(grammars[i], words[i], i%5)
 		if after != before[i] {
 			t.Errorf("%q, %q: %s, but before: %s", grammars[i], words[i], after, before[i])
 		}

@@ -1,8 +1,9 @@
 package lrgen
 
 const (
-	bigCount  = 26
-	signCount = 27 // `$` and the small letters
+	bigCount    = 26
+	letterCount = 52
+	signCount   = 27 // `$` and the small letters
 )
 
 // endSign stands for the end of a text.
@@ -13,6 +14,46 @@ func isBig(c byte) bool { return c >= 'A' && c <= 'Z' }
 func isSmall(c byte) bool { return c >= 'a' && c <= 'z' }
 
 func isLetter(c byte) bool { return isBig(c) || isSmall(c) }
+
+func isSign(c byte) bool { return c == endSign || isSmall(c) }
+
+// letterAt answers the i-th letter in the order of their bytes, from 0 on.
+func letterAt(i int) byte {
+	if i < bigCount {
+		return 'A' + byte(i)
+	}
+	return 'a' + byte(i-bigCount)
+}
+
+// letterIndex is the other way round of letterAt; -1 for what is no letter.
+func letterIndex(c byte) int {
+	if isBig(c) {
+		return int(c - 'A')
+	}
+	if isSmall(c) {
+		return bigCount + int(c-'a')
+	}
+	return -1
+}
+
+// signAt answers the i-th sign in the order of lists, from 0 on.
+func signAt(i int) byte {
+	if i == 0 {
+		return endSign
+	}
+	return 'a' + byte(i-1)
+}
+
+// signIndex is the other way round of signAt; -1 for what is no sign.
+func signIndex(c byte) int {
+	if c == endSign {
+		return 0
+	}
+	if isSmall(c) {
+		return 1 + int(c-'a')
+	}
+	return -1
+}
 
 // bigSet is a set of big letters. Other bytes are never in it, so that callers
 // may ask for any byte of a word.
@@ -30,6 +71,18 @@ func (s *bigSet) add(c byte) {
 	}
 }
 
+// letterSet is a set of letters, held in the order of their bytes.
+type letterSet struct {
+	in [letterCount]bool
+}
+
+func (s *letterSet) add(c byte) {
+	i := letterIndex(c)
+	if i >= 0 {
+		s.in[i] = true
+	}
+}
+
 // signSet is a set of signs, held in the order of lists: the end sign at 0,
 // then the small letters.
 type signSet struct {
@@ -37,12 +90,20 @@ type signSet struct {
 }
 
 func (s *signSet) add(c byte) {
-	if c == endSign {
-		s.in[0] = true
+	i := signIndex(c)
+	if i >= 0 {
+		s.in[i] = true
 	}
-	if isSmall(c) {
-		s.in[1+c-'a'] = true
-	}
+}
+
+func (s *signSet) has(c byte) bool {
+	i := signIndex(c)
+	return i >= 0 && s.in[i]
+}
+
+func (s *signSet) isEmpty() bool {
+	var none signSet
+	return *s == none
 }
 
 func (s *signSet) addAll(more signSet) {
@@ -53,12 +114,9 @@ func (s *signSet) addAll(more signSet) {
 
 func (s *signSet) list() string {
 	var signs []byte
-	if s.in[0] {
-		signs = append(signs, endSign)
-	}
-	for c := byte('a'); c <= 'z'; c++ {
-		if s.in[1+c-'a'] {
-			signs = append(signs, c)
+	for i := 0; i < signCount; i++ {
+		if s.in[i] {
+			signs = append(signs, signAt(i))
 		}
 	}
 	return string(signs)

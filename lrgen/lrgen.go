@@ -56,25 +56,84 @@ func Follow(g string, w string) (string, Errno) {
 	return behind.list(), OK
 }
 
-// The calls from here on are not built yet: they answer zero values.
-
 // States tells how many states there are (P6).
-func States(g string) (int, Errno) { return 0, OK }
+func States(g string) (int, Errno) {
+	t := readTable(g)
+	if t.fault != OK {
+		return 0, t.fault
+	}
+	return len(t.states), OK
+}
 
 // Step tells to which state a letter leads (P6).
-func Step(g string, s int, x string) (int, Errno) { return 0, OK }
+func Step(g string, s int, x string) (int, Errno) {
+	t := readTable(g)
+	if t.fault != OK {
+		return 0, t.fault
+	}
+	if !t.hasState(s) {
+		return 0, ErrState
+	}
+	if len(x) != 1 || !isLetter(x[0]) {
+		return 0, ErrWord
+	}
+	return t.step(s, x[0]), OK
+}
 
 // Acts tells what can be done in a state where a sign comes (P6).
-func Acts(g string, s int, x string) (string, Errno) { return "", OK }
+func Acts(g string, s int, x string) (string, Errno) {
+	t := readTable(g)
+	if t.fault != OK {
+		return "", t.fault
+	}
+	if !t.hasState(s) {
+		return "", ErrState
+	}
+	if len(x) != 1 || !isSign(x[0]) {
+		return "", ErrWord
+	}
+	found := t.acts(s, x[0])
+	return found.list(), OK
+}
 
 // Core tells of which core a state is (P7).
-func Core(g string, s int) (int, Errno) { return 0, OK }
+func Core(g string, s int) (int, Errno) {
+	t := readTable(g)
+	if t.fault != OK {
+		return 0, t.fault
+	}
+	if !t.hasState(s) {
+		return 0, ErrState
+	}
+	return t.states[s].core, OK
+}
 
 // Mix tells what can be done in the states of a core where a sign comes (P7).
-func Mix(g string, c int, x string) (string, Errno) { return "", OK }
+func Mix(g string, c int, x string) (string, Errno) {
+	t := readTable(g)
+	if t.fault != OK {
+		return "", t.fault
+	}
+	if !t.hasCore(c) {
+		return "", ErrState
+	}
+	if len(x) != 1 || !isSign(x[0]) {
+		return "", ErrWord
+	}
+	found := t.mix(c, x[0])
+	return found.list(), OK
+}
 
 // Class tells whether one letter ahead is enough, and whether it is in merged tables (P8).
-func Class(g string) (int, Errno) { return 0, OK }
+func Class(g string) (int, Errno) {
+	t := readTable(g)
+	if t.fault != OK {
+		return 0, t.fault
+	}
+	return t.class(), OK
+}
+
+// The calls from here on are not built yet: they answer zero values.
 
 // Tree tells how a text is made (P9).
 func Tree(g string, t string) (string, Errno) { return "", OK }
