@@ -1,5 +1,7 @@
 package lrgen
 
+const noRule = -1
+
 // actSet is what can be done where a sign comes: a step, and the replacing of
 // right sides by the rules with these numbers.
 type actSet struct {
@@ -26,6 +28,21 @@ func (a *actSet) list() string {
 		}
 	}
 	return string(acts)
+}
+
+func (a *actSet) isEmpty() bool {
+	var none actSet
+	return *a == none
+}
+
+// firstRule answers the least number of a rule, or noRule.
+func (a *actSet) firstRule() int {
+	for n := 0; n < ruleCount; n++ {
+		if a.rules[n] {
+			return n
+		}
+	}
+	return noRule
 }
 
 // isClash tells whether there is more than one thing to do.

@@ -10,7 +10,7 @@ import (
 	"lrgen/lrgen"
 )
 
-// answers lays what the built calls answer into one text.
+// answers lays what all calls answer into one text.
 func answers(g, w string, n int) string {
 	fault, place := lrgen.Check(g)
 	null, nullFault := lrgen.Null(g, w)
@@ -22,24 +22,11 @@ func answers(g, w string, n int) string {
 	core, coreFault := lrgen.Core(g, n)
 	mix, mixFault := lrgen.Mix(g, n, w)
 	class, classFault := lrgen.Class(g)
+	tree, treeFault := lrgen.Tree(g, w)
+	at, signs, stopFault := lrgen.Stop(g, w)
 	return fmt.Sprint(fault, place, null, nullFault, first, firstFault, follow, followFault,
-		states, statesFault, step, stepFault, acts, actsFault, core, coreFault, mix, mixFault, class, classFault)
-}
-
-// callAll makes every call, those too that are not built yet.
-func callAll(g, w string, n int) {
-	lrgen.Check(g)
-	lrgen.Null(g, w)
-	lrgen.First(g, w)
-	lrgen.Follow(g, w)
-	lrgen.States(g)
-	lrgen.Step(g, n, w)
-	lrgen.Acts(g, n, w)
-	lrgen.Core(g, n)
-	lrgen.Mix(g, n, w)
-	lrgen.Class(g)
-	lrgen.Tree(g, w)
-	lrgen.Stop(g, w)
+		states, statesFault, step, stepFault, acts, actsFault, core, coreFault, mix, mixFault, class, classFault,
+		tree, treeFault, at, signs, stopFault)
 }
 
 func someText(source *rand.Rand, bytes string, most int) string {
@@ -58,10 +45,10 @@ func TestEveryCallEndsP1(t *testing.T) {
 			g = someGrammar(source)
 		}
 		w := someText(source, "SAab$=\x00\xff", 15)
-		callAll(g, w, source.Intn(100)-50)
+		answers(g, w, source.Intn(100)-50)
 	}
-	callAll("S=a", "a", -1<<63)
-	callAll("S=a", "a", 1<<63-1)
+	answers("S=a", "a", -1<<63)
+	answers("S=a", "a", 1<<63-1)
 }
 
 // With an error every other result is zero, but for Check's place.
@@ -71,6 +58,7 @@ func TestErrorsLeaveZeroP1(t *testing.T) {
 		g := someGrammar(source)
 		w := someText(source, "SAab$", source.Intn(14))
 		tablesLeaveZero(t, g, w, source.Intn(12)-2)
+		textsLeaveZero(t, g, w)
 		null, fault := lrgen.Null(g, w)
 		if fault != lrgen.OK && null {
 			t.Errorf("Null(%q, %q) = true, %d", g, w, fault)
@@ -113,6 +101,17 @@ func tablesLeaveZero(t *testing.T, g, w string, n int) {
 	}
 }
 
+func textsLeaveZero(t *testing.T, g, w string) {
+	tree, fault := lrgen.Tree(g, w)
+	if fault != lrgen.OK && tree != "" {
+		t.Errorf("Tree(%q, %q) = %q, %d", g, w, tree, fault)
+	}
+	at, signs, fault := lrgen.Stop(g, w)
+	if fault != lrgen.OK && (at != 0 || signs != "") {
+		t.Errorf("Stop(%q, %q) = %d, %q, %d", g, w, at, signs, fault)
+	}
+}
+
 // A length is known at once; reading these strings would take far longer than
 // the time that is granted here.
 func TestLongStringsCostNothingP1(t *testing.T) {
@@ -127,6 +126,7 @@ func TestLongStringsCostNothingP1(t *testing.T) {
 			wantNull(t, c[0], c[1], false, lrgen.ErrLong)
 			wantFirst(t, c[0], c[1], "", lrgen.ErrLong)
 			wantFollow(t, c[0], c[1], "", lrgen.ErrLong)
+			wantUnread(t, c[0], c[1], lrgen.ErrLong)
 		}
 		wantStates(t, long, 0, lrgen.ErrLong)
 		wantClass(t, long, 0, lrgen.ErrLong)
@@ -152,12 +152,16 @@ func TestNothingIsKeptP2(t *testing.T) {
 	for i := range 500 {
 		g := someGrammar(source)
 		w := someText(source, "SAab$", 2)
+		if i%2 == 0 {
+			w = someText(source, "ab", 4)
+		}
 		grammars = append(grammars, g)
 		words = append(words, w)
 		before = append(before, answers(g, w, i%5))
 	}
 	for i := len(grammars) - 1; i >= 0; i-- {
-		callAll(expression, "E", i)
+		answers(expression, "E", i)
+		answers(expression, "lipirmi", i)
 		after := answers(grammars[i], words[i], i%5)
 		if after != before[i] {
 			t.Errorf("%q, %q: %s, but before: %s", grammars[i], words[i], after, before[i])

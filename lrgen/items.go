@@ -52,6 +52,27 @@ func (g *grammar) spotOf(letter byte, rest string) spot {
 	return s
 }
 
+// leftOf answers the big letter that is replaced by a rule; 0, if there is none.
+func (p *plan) leftOf(number int) byte {
+	if number < 0 || number >= ruleCount {
+		return 0
+	}
+	return p.left[number]
+}
+
+// rightLength answers how many letters a rule's right side has.
+func (p *plan) rightLength(number int) int {
+	if number < 0 || number >= ruleCount {
+		return 0
+	}
+	for at := 0; at < placeCount; at++ {
+		if p.spots[number][at].end {
+			return at
+		}
+	}
+	return 0
+}
+
 // itemSet is a set of items: the signs of those of each rule and place.
 type itemSet struct {
 	signs [ruleCount][placeCount]signSet

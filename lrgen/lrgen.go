@@ -133,10 +133,35 @@ func Class(g string) (int, Errno) {
 	return t.class(), OK
 }
 
-// The calls from here on are not built yet: they answer zero values.
-
 // Tree tells how a text is made (P9).
-func Tree(g string, t string) (string, Errno) { return "", OK }
+func Tree(g string, t string) (string, Errno) {
+	found := readForText(g, t)
+	if found.fault != OK {
+		return "", found.fault
+	}
+	var r reading
+	r.start(&found)
+	good := r.takeAll(t)
+	if good < len(t) {
+		return "", ErrNone
+	}
+	ended := r.settle(endSign)
+	if !ended {
+		return "", ErrNone
+	}
+	start := r.last()
+	return start.written, OK
+}
 
 // Stop tells how far a text is good, and what can come there (P10).
-func Stop(g string, t string) (int, string, Errno) { return 0, "", OK }
+func Stop(g string, t string) (int, string, Errno) {
+	found := readForText(g, t)
+	if found.fault != OK {
+		return 0, "", found.fault
+	}
+	var r reading
+	r.start(&found)
+	good := r.takeAll(t)
+	signs := r.signsAhead()
+	return good, signs.list(), OK
+}

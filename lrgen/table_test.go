@@ -192,7 +192,7 @@ func TestClassSeesEachSignP8(t *testing.T) {
 	}
 }
 
-func TestGrammarErrorsP6P7P8(t *testing.T) {
+func TestGrammarErrorsP6ToP10(t *testing.T) {
 	for _, c := range []struct {
 		g     string
 		fault lrgen.Errno

@@ -54,12 +54,38 @@ func wantClass(t *testing.T, g string, want int, fault lrgen.Errno) {
 	}
 }
 
-// wantRefused asks that each call on tables answers an error of the grammar,
-// whatever state and sign it is asked for.
+func wantTree(t *testing.T, g, text, want string, fault lrgen.Errno) {
+	t.Helper()
+	got, e := lrgen.Tree(g, text)
+	if got != want || e != fault {
+		t.Errorf("Tree(%.40q, %.20q) = %q, %d, want %q, %d", g, text, got, e, want, fault)
+	}
+}
+
+func wantStop(t *testing.T, g, text string, want int, signs string, fault lrgen.Errno) {
+	t.Helper()
+	got, list, e := lrgen.Stop(g, text)
+	if got != want || list != signs || e != fault {
+		t.Errorf("Stop(%.40q, %.20q) = %d, %q, %d, want %d, %q, %d", g, text, got, list, e, want, signs, fault)
+	}
+}
+
+// wantUnread asks that a text is not read, for one reason.
+func wantUnread(t *testing.T, g, text string, fault lrgen.Errno) {
+	t.Helper()
+	wantTree(t, g, text, "", fault)
+	wantStop(t, g, text, 0, "", fault)
+}
+
+// wantRefused asks that each call on tables and texts answers an error of the
+// grammar, whatever state, sign and text it is asked for.
 func wantRefused(t *testing.T, g string, fault lrgen.Errno) {
 	t.Helper()
 	wantStates(t, g, 0, fault)
 	wantClass(t, g, 0, fault)
+	for _, text := range []string{"", "a", "aaaaaaaaaaaa", "S", "a?", "\xff"} {
+		wantUnread(t, g, text, fault)
+	}
 	for _, n := range []int{-1, 0, 40} {
 		wantCore(t, g, n, 0, fault)
 		for _, x := range []string{"", "a", "S", "$", "aa", "?"} {
